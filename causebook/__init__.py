@@ -1,0 +1,1 @@
+"""Causebook: books of causes, reckoned exactly with whole numbers."""
