@@ -1,0 +1,35 @@
+"""The interface: every name that the document lists is there, with its arguments as they stand."""
+
+import importlib
+import inspect
+import unittest
+
+WANTED = {
+    "shares": ["share(top, bottom)", "plus(one, other)", "minus(one, other)", "times(one, other)",
+               "over(one, other)", "total(shares)", "under(one, other)"],
+    "worlds": ["count_of(sizes)", "worlds(sizes)", "rank(sizes, world)", "world_at(sizes, place)",
+               "agrees(world, view)", "worlds_by(sizes, view)"],
+    "shapes": ["order_of(causes)", "effects(causes, k)", "above(causes, some)", "beneath(causes, some)",
+               "way_down(causes, k, some)", "without(causes, pairs)"],
+    "books": ["book(sizes, causes, tables)", "row_at(book, k, world)", "chance_at(book, k, world)",
+              "world_chance(book, world)", "by_worlds(book, view)", "set_to(book, k, a)"],
+    "sheets": ["leaf(book, k, view)", "joined(sizes, one, other)", "left_out(sizes, sheet, k)"],
+    "sums": ["chance(book, view, order=None)", "widths(book, view, order=None)", "chance_given(book, view, known)",
+             "spread(book, k, known)"],
+}
+
+
+class TheInterface(unittest.TestCase):
+    def test_names_and_arguments(self):
+        for module, rows in WANTED.items():
+            found = importlib.import_module("causebook." + module)
+            for row in rows:
+                with self.subTest(module=module, row=row):
+                    name = row.split("(")[0]
+                    function = getattr(found, name)
+                    self.assertEqual(name + str(inspect.signature(function)), row)
+                    self.assertEqual(function.__module__, "causebook." + module)
+
+
+if __name__ == "__main__":
+    unittest.main()
