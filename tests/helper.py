@@ -190,3 +190,57 @@ def assert_ring(test, causes, ring):
     test.assertEqual(ring[0], min(ring))
     for place, k in enumerate(ring):
         test.assertIn(k, causes[ring[(place + 1) % len(ring)]])
+
+
+def under_of(causes):
+    """For each thing all that are beneath it, itself too."""
+    found = [{k} for k in range(len(causes))]
+    for turn in causes:
+        for k, own in enumerate(causes):
+            for c in own:
+                found[c] |= found[k]
+    return found
+
+
+def roads_between(causes, x, y):
+    """All roads from x to y, by going wherever an arrow leads either way."""
+    waiting = [[x]]
+    while waiting:
+        road = waiting.pop()
+        if road[-1] == y:
+            yield road
+            continue
+        for k in range(len(causes)):
+            if k not in road and (k in causes[road[-1]] or road[-1] in causes[k]):
+                waiting.append(road + [k])
+
+
+def vee_places(causes, road):
+    return [place for place in range(1, len(road) - 1) if {road[place - 1], road[place + 1]} <= set(causes[road[place]])]
+
+
+def bars_of(causes, road, known):
+    """The places of all things that bar a road, by the words of point [16]."""
+    under, vees = under_of(causes), vee_places(causes, road)
+    found = []
+    for place in range(1, len(road) - 1):
+        k = road[place]
+        if (place in vees and not under[k] & set(known)) or (place not in vees and k in known):
+            found.append(place)
+    return found
+
+
+def barred_by_roads(causes, x, y, known):
+    return all(bars_of(causes, road, known) for road in roads_between(causes, x, y))
+
+
+def best_road(causes, x, y, known):
+    """Point [19] by a search over all roads."""
+    free = [road for road in roads_between(causes, x, y) if not bars_of(causes, road, known)]
+    return min(free, key=lambda road: (len(vee_places(causes, road)), len(road), road), default=None)
+
+
+def random_question(source, number, most=3):
+    """Two unlike things, and some others in any order."""
+    things = source.sample(range(number), number)
+    return things[0], things[1], things[2:2 + source.randint(0, min(most, number - 2))]

@@ -16,6 +16,14 @@ WANTED = {
     "sheets": ["leaf(book, k, view)", "joined(sizes, one, other)", "left_out(sizes, sheet, k)"],
     "sums": ["chance(book, view, order=None)", "widths(book, view, order=None)", "chance_given(book, view, known)",
              "spread(book, k, known)"],
+    "reach": ["reach(causes, x, known)", "is_closed(causes, known, pairs)", "barred(causes, x, y, known)",
+              "silent(causes, ones, others, known)", "parting(causes, x, y, among)",
+              "least_parting(causes, x, y, known)"],
+    "roads": ["is_road(causes, road)", "bar(causes, road, known)", "downs(causes, road, known)",
+              "open_road(causes, x, y, known)"],
+    "coins": ["tables_by(sizes, causes, plan)", "road_plan(causes, road, known)",
+              "hanging(sizes, causes, x, y, known)"],
+    "setting": ["by_setting(book, x, a, y, b)", "by_seeing(book, x, a, y, b, some)"],
 }
 
 
