@@ -24,6 +24,13 @@ WANTED = {
     "coins": ["tables_by(sizes, causes, plan)", "road_plan(causes, road, known)",
               "hanging(sizes, causes, x, y, known)"],
     "setting": ["by_setting(book, x, a, y, b)", "by_seeing(book, x, a, y, b, some)"],
+    "adjust": ["on_ways(causes, x, y)", "cut_shape(causes, x, y)", "does(causes, x, y, some)",
+               "why_not(causes, x, y, some)", "set_among(causes, x, y, among)", "least_set(causes, x, y, some)"],
+    "against": ["against(sizes, causes, x, y, some)"],
+    "likeliest": ["topped(sizes, sheet, k)", "best_chance(book, view, order=None)", "tops(book, k, view)",
+                  "likeliest(book, view)"],
+    "clumps": ["is_hidden(causes, hidden)", "seen_things(causes, hidden)", "clumps(causes, hidden, some)",
+               "above_in(causes, some, within)"],
 }
 
 
