@@ -244,3 +244,16 @@ def random_question(source, number, most=3):
     """Two unlike things, and some others in any order."""
     things = source.sample(range(number), number)
     return things[0], things[1], things[2:2 + source.randint(0, min(most, number - 2))]
+
+
+def hidden_shape(source, seen, hidden, thick=0.4):
+    """A shape of seen things, and hidden ones above two of them each, all numbers shuffled."""
+    causes = random_shape(source, seen, most=2, thick=thick) + [[] for turn in range(hidden)]
+    for k in range(seen, seen + hidden):
+        for effect in source.sample([e for e in range(seen) if len(causes[e]) < 5], 2):
+            causes[effect] = causes[effect] + [k]
+    order = source.sample(range(seen + hidden), seen + hidden)
+    renamed = [[] for k in order]
+    for k, own in enumerate(causes):
+        renamed[order[k]] = sorted(order[c] for c in own)
+    return renamed, sorted(order[seen:])

@@ -4,23 +4,10 @@ import itertools
 import unittest
 
 from causebook.clumps import above_in, clumps, is_hidden, seen_things
-from helper import assert_own, random_shape, source_of
+from helper import assert_own, hidden_shape, random_shape, source_of
 
 # 0 and 1 are hidden; 2, 3, 4 are linked in a row by them, 2 -> 3 and 3 -> 5.
 ROW = [[], [], [0], [0, 1, 2], [1], [3]]
-
-
-def hidden_shape(source, seen, hidden, thick=0.4):
-    """A shape of seen things, and hidden ones above two of them each, all numbers shuffled."""
-    causes = random_shape(source, seen, most=2, thick=thick) + [[] for turn in range(hidden)]
-    for k in range(seen, seen + hidden):
-        for effect in source.sample([e for e in range(seen) if len(causes[e]) < 5], 2):
-            causes[effect] = causes[effect] + [k]
-    order = source.sample(range(seen + hidden), seen + hidden)
-    renamed = [[] for k in order]
-    for k, own in enumerate(causes):
-        renamed[order[k]] = sorted(order[c] for c in own)
-    return renamed, sorted(order[seen:])
 
 
 def links_of(causes, hidden):

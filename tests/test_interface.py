@@ -31,6 +31,13 @@ WANTED = {
                   "likeliest(book, view)"],
     "clumps": ["is_hidden(causes, hidden)", "seen_things(causes, hidden)", "clumps(causes, hidden, some)",
                "above_in(causes, some, within)"],
+    "recipes": ["counting(causes, hidden, x, y)", "chain(causes, hidden, clump)", "recipe(causes, hidden, x, y)",
+                "stuck(causes, hidden, x, y)", "is_chain(causes, hidden, lists)", "seen_sheet(book, hidden)",
+                "worked(sizes, causes, hidden, lists, shares)", "told(sizes, causes, hidden, x, a, y, b, shares)"],
+    "twins": ["tree(causes, hidden, small, great)", "feeds(causes, small, great)", "relays(causes, hidden, x, y)",
+              "twins(causes, hidden, x, y)"],
+    "texts": ["read(text)", "shown(names, book, hidden)"],
+    "desk": ["Desk(text)"],
 }
 
 
@@ -44,6 +51,15 @@ class TheInterface(unittest.TestCase):
                     function = getattr(found, name)
                     self.assertEqual(name + str(inspect.signature(function)), row)
                     self.assertEqual(function.__module__, "causebook." + module)
+
+    def test_the_desk_is_a_class_that_is_told_rows(self):
+        found = importlib.import_module("causebook.desk").Desk
+        self.assertIsInstance(found, type)
+        self.assertEqual(str(inspect.signature(found("").say)), "(row)")
+
+    def test_modules_of_the_interface_are_all_there(self):
+        for name in list(WANTED) + ["errors"]:
+            importlib.import_module("causebook." + name)
 
 
 if __name__ == "__main__":
