@@ -22,10 +22,10 @@ def reach(causes, x, known):
 
 
 def is_closed(causes, known, pairs):
-    for pair in pairs:
-        for step in steps_from(causes, known, pair):
-            if step not in pairs:
-                return False
+    each = sorted(set(pairs))
+    for pair in each:
+        if not all([step in each for step in steps_from(causes, known, pair)]):
+            return False
     return True
 
 
@@ -66,7 +66,7 @@ def made_least(some, holds):
 
 
 def one_round(some, holds):
-    left = list(some)
+    left = some
     for k in reversed(some):
         rest = [other for other in left if other != k]
         if holds(rest):

@@ -5,7 +5,7 @@ from causebook.shapes import beneath, effects, meet, way_down
 
 
 def neighbours(causes, k):
-    return sorted(causes[k] + effects(causes, k))
+    return causes[k] + effects(causes, k)
 
 
 def is_road(causes, road):

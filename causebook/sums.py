@@ -52,7 +52,7 @@ def widths(book, view, order=None):
     for k in turns:
         width = width_of([things for things in piles if k in things], k)
         piles = [things for things in piles if k not in things] + [width]
-        found.append(list(width))
+        found.append(width)
     return found
 
 

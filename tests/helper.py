@@ -257,3 +257,35 @@ def hidden_shape(source, seen, hidden, thick=0.4):
     for k, own in enumerate(causes):
         renamed[order[k]] = sorted(order[c] for c in own)
     return renamed, sorted(order[seen:])
+
+
+def some_questions(seed, turns, numbers=(2, 3, 4, 5, 6)):
+    """Shapes with two unlike things and some others of them."""
+    source = source_of(seed)
+    for turn in range(turns):
+        causes = random_shape(source, source.choice(numbers), thick=source.choice((0.3, 0.5, 0.8)))
+        yield (causes,) + random_question(source, len(causes))
+
+
+def some_books(seed, turns, numbers=(0, 1, 2, 3, 4, 5), greatest=(1, 9, 10 ** 60 - 1), noughts=(0.0, 0.3)):
+    """Books of few things; with the greatest weight 1 many worlds are equally likely."""
+    source = source_of(seed)
+    for turn in range(turns):
+        causes = random_shape(source, source.choice(numbers), thick=source.choice((0.3, 0.7, 1.0)))
+        yield random_book(source, causes, greatest=source.choice(greatest), noughts=source.choice(noughts))
+
+
+def seen_of(causes, hidden):
+    return [k for k in range(len(causes)) if k not in hidden]
+
+
+def least_by_hand(some, holds):
+    """As point [20] makes a list least."""
+    left, before = sorted(some), None
+    while left != before:
+        before = list(left)
+        for k in reversed(before):
+            rest = [other for other in left if other != k]
+            if holds(rest):
+                left = rest
+    return left

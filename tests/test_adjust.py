@@ -8,8 +8,8 @@ from causebook.against import against
 from causebook.books import book
 from causebook.roads import open_road
 from causebook.setting import by_seeing, by_setting
-from helper import (CHAIN, FORK, VEE, all_shapes, assert_own, barred_by_roads, random_book, random_question,
-                    random_shape, set_by_hand, source_of, subsets, sum_over, under_of, view_with, whole_of)
+from helper import (CHAIN, FORK, VEE, all_shapes, assert_own, barred_by_roads, least_by_hand, random_book, set_by_hand,
+                    some_questions, source_of, subsets, sum_over, under_of, view_with, whole_of)
 
 # 0 is a cause of 1 and of 3, 1 -> 2 -> 3, and 2 -> 4: ask 3 where 1 is set.
 MIXED = [[], [0], [1], [0, 2], [2]]
@@ -42,14 +42,6 @@ def fails_a(causes, x, y, some):
 
 def does_by_hand(causes, x, y, some):
     return not fails_a(causes, x, y, some) and barred_by_roads(cut_by_hand(causes, x, y), x, y, some)
-
-
-def some_questions(seed, turns, numbers=(2, 3, 4, 5, 6)):
-    source = source_of(seed)
-    for turn in range(turns):
-        causes = random_shape(source, source.choice(numbers), thick=source.choice((0.3, 0.5, 0.8)))
-        x, y, some = random_question(source, len(causes))
-        yield causes, x, y, some
 
 
 class OnWays(unittest.TestCase):
@@ -277,14 +269,7 @@ class LeastSet(unittest.TestCase):
                 self.assertIsNone(told)
                 continue
             seen += len(told) > 0
-            left, before = sorted(some), None
-            while left != before:
-                before = list(left)
-                for k in reversed(before):
-                    rest = [other for other in left if other != k]
-                    if does_by_hand(causes, x, y, rest):
-                        left = rest
-            self.assertEqual(told, left)
+            self.assertEqual(told, least_by_hand(some, lambda part: does_by_hand(causes, x, y, part)))
             for part in subsets(told):
                 self.assertIs(does_by_hand(causes, x, y, part), part == told)
         self.assertGreater(seen, 15)

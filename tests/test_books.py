@@ -8,7 +8,7 @@ from fractions import Fraction
 from causebook.books import book, by_worlds, chance_at, row_at, set_to, world_chance
 from causebook.errors import NoBook, Ring
 from helper import (NO_LISTS, NOT_WHOLE, assert_own, assert_refused, assert_ring, chance_of_value, pair, random_book,
-                    random_shape, random_view, set_by_hand, source_of, sum_over, view_with, whole_of, worlds_of)
+                    random_shape, random_view, set_by_hand, some_books, source_of, sum_over, view_with, whole_of)
 
 GREAT = 10 ** 60 - 1
 
@@ -25,14 +25,6 @@ RING = (
     [[[4, 1], [1, 1]], [[6, 4], [99, 1]], [[1, 0], [1, 9], [2, 8], [1, 99]]],
 )
 SELF = ([2], [[0]], [[[1, 2], [3, 4]]])
-
-
-def some_books(seed, turns, numbers=(0, 1, 2, 3, 4, 5), noughts=(0.0, 0.3)):
-    source = source_of(seed)
-    for turn in range(turns):
-        causes = random_shape(source, source.choice(numbers), thick=source.choice((0.3, 0.7, 1.0)))
-        greatest = source.choice((1, 9, GREAT))
-        yield random_book(source, causes, greatest=greatest, noughts=source.choice(noughts))
 
 
 class Made(unittest.TestCase):

@@ -108,6 +108,13 @@ class ThePlanOfARoad(unittest.TestCase):
         causes = [[], [0], [0, 1], [0, 2]]
         self.assertEqual(assert_own(self, road_plan, causes, [0, 1, 2, 3], []),
                          [("coin",), ("sum", [0]), ("sum", [1]), ("sum", [2])])
+        # 0 <- 1 -> 2 <- 3 with 2 known: that 2 is a cause of 0 too is no part of the road.
+        causes = [[1, 2], [], [1, 3], []]
+        self.assertEqual(open_road(causes, 0, 3, [2]), [0, 1, 2, 3])
+        self.assertEqual(assert_own(self, road_plan, causes, [0, 1, 2, 3], [2]),
+                         [("sum", [1]), ("coin",), ("sum", [1, 3]), ("coin",)])
+        self.assertEqual(assert_own(self, road_plan, causes, [3, 2, 1, 0], [2]),
+                         [("sum", [1]), ("coin",), ("sum", [1, 3]), ("coin",)])
 
 
 class Hanging(unittest.TestCase):

@@ -6,20 +6,11 @@ from fractions import Fraction
 
 from causebook.errors import NoGround, NoOrder
 from causebook.likeliest import best_chance, likeliest, topped, tops
-from helper import (CHAIN, assert_own, assert_refused, fits, pair, random_book, random_shape, random_view, source_of,
-                    view_with, whole_of)
+from helper import (CHAIN, assert_own, assert_refused, fits, pair, random_book, random_shape, random_view, some_books,
+                    source_of, view_with, whole_of)
 
 SIZES = [2, 3]
 COINS = ([2, 2, 3], CHAIN, [[[1, 2]], [[3, 1], [1, 3]], [[1, 0, 0], [0, 1, 0]]])
-
-
-def some_books(seed, turns, numbers=(0, 1, 2, 3, 4, 5)):
-    source = source_of(seed)
-    for turn in range(turns):
-        causes = random_shape(source, source.choice(numbers), thick=source.choice((0.3, 0.7, 1.0)))
-        # With the greatest weight 1 many worlds are equally likely.
-        greatest = source.choice((1, 1, 9, 10 ** 60 - 1))
-        yield random_book(source, causes, greatest=greatest, noughts=source.choice((0.0, 0.4)))
 
 
 def best_by_hand(book, view):

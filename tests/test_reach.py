@@ -1,11 +1,11 @@
 """The reach: points [17], [18] and [20], what [3] says of barred roads, and what [2] says of all this."""
 
-import itertools
 import unittest
 
 from causebook.reach import barred, is_closed, least_parting, parting, reach, silent
-from helper import (CHAIN, FORK, VEE, all_shapes, assert_own, barred_by_roads, random_book, random_question,
-                    random_shape, source_of, subsets, sum_over, view_with, whole_of, worlds_of)
+from helper import (CHAIN, FORK, VEE, all_shapes, assert_own, barred_by_roads, least_by_hand, random_book,
+                    random_question, random_shape, some_questions, source_of, subsets, sum_over, view_with, whole_of,
+                    worlds_of)
 
 # 0 -> 2 <- 1, and 2 -> 3 -> 4.
 DEEP_VEE = [[], [], [0, 1], [2], [3]]
@@ -24,14 +24,6 @@ def reach_by_hand(causes, x, known):
         if more <= found:
             return sorted(found)
         found |= more
-
-
-def some_questions(seed, turns, numbers=(2, 3, 4, 5, 6)):
-    source = source_of(seed)
-    for turn in range(turns):
-        causes = random_shape(source, source.choice(numbers), thick=source.choice((0.3, 0.5, 0.8)))
-        x, y, known = random_question(source, len(causes))
-        yield causes, x, y, known
 
 
 class TheReach(unittest.TestCase):
@@ -239,18 +231,6 @@ def over_of(causes, some):
     return found
 
 
-def least_by_hand(some, holds):
-    left = sorted(some)
-    while True:
-        went = False
-        for k in sorted(left, reverse=True):
-            rest = [other for other in left if other != k]
-            if holds(rest):
-                left, went = rest, True
-        if not went:
-            return left
-
-
 class LeastParting(unittest.TestCase):
     def test_small_ones(self):
         self.assertEqual(assert_own(self, least_parting, CHAIN, 0, 2, [1]), [1])
@@ -263,25 +243,8 @@ class LeastParting(unittest.TestCase):
         self.assertEqual(least_parting([[], [0], [1], [2]], 0, 3, [2, 1]), [1])
 
     def test_gone_through_again(self):
-        # A V's known thing can go only when what bars the road elsewhere is no longer asked for.
-        seen = 0
-        source = source_of(59)
-        for turn in range(400):
-            causes = random_shape(source, 6, thick=0.4)
-            x, y, known = random_question(source, 6, 4)
-            if barred(causes, x, y, known):
-                rounds = 0
-                left, before = sorted(known), None
-                while left != before:
-                    before = list(left)
-                    for k in reversed(before):
-                        rest = [other for other in left if other != k]
-                        if barred_by_roads(causes, x, y, rest):
-                            left = rest
-                    rounds += 1
-                seen += rounds > 2
-                self.assertEqual(least_parting(causes, x, y, known), left)
-        self.assertGreater(seen, 0)
+        # 2 -> 0 <- 1 <- 3: while 0 is known 1 can't go; when 0 has gone 1 can, in the second round.
+        self.assertEqual(assert_own(self, least_parting, [[1, 2], [3], [], []], 2, 3, [1, 0]), [])
 
     def test_by_chance(self):
         seen = 0

@@ -7,8 +7,8 @@ from fractions import Fraction
 from causebook.errors import NoGround, NotTold
 from causebook.recipes import chain, counting, is_chain, recipe, seen_sheet, stuck, told, worked
 from causebook.setting import by_setting
-from helper import (assert_own, assert_refused, fraction, hidden_shape, pair, random_book, set_by_hand, source_of,
-                    sum_over, view_with, whole_of, worlds_of)
+from helper import (assert_own, assert_refused, fraction, hidden_shape, pair, random_book, seen_of, set_by_hand,
+                    source_of, sum_over, view_with, whole_of, worlds_of)
 
 # Behind the names: x, y as asked, u and v hidden, the rest seen.
 # x -> y, u above both.
@@ -21,10 +21,6 @@ NAPKIN = ([[4, 5], [0], [1, 4], [2, 5], [], []], [4, 5], 2, 3)
 BACK = ([[], [0], [0, 1]], [], 1, 2)
 # x -> z -> y, u above x and z: z can't be told, whatever of y.
 BENT = ([[3], [0, 3], [1], []], [3], 0, 2)
-
-
-def seen_of(causes, hidden):
-    return [k for k in range(len(causes)) if k not in hidden]
 
 
 def clumps_by_hand(causes, hidden, some):

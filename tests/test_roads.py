@@ -6,7 +6,7 @@ import unittest
 from causebook.reach import barred
 from causebook.roads import bar, downs, is_road, open_road
 from helper import (CHAIN, FORK, VEE, all_shapes, assert_own, bars_of, best_road, random_question, random_shape,
-                    roads_between, source_of, subsets, under_of, vee_places)
+                    roads_between, source_of, subsets, vee_places)
 
 # 0 -> 2 <- 1, and 2 -> 3 -> 4.
 DEEP_VEE = [[], [], [0, 1], [2], [3]]

@@ -9,18 +9,10 @@ from causebook.errors import NoGround, NoOrder
 from causebook.shares import total
 from causebook.sums import chance, chance_given, spread, widths
 from helper import (CHAIN, VEE, assert_own, assert_refused, fits, fraction, pair, random_book, random_shape,
-                    random_view, source_of, sum_over, view_with, whole_of)
+                    random_view, some_books, source_of, sum_over, view_with, whole_of)
 
 # A coin, a second one that is mostly the same, and a third one that is surely the second.
 COINS = ([2, 2, 3], [[], [0], [1]], [[[1, 2]], [[3, 1], [1, 3]], [[1, 0, 0], [0, 1, 0]]])
-
-
-def some_books(seed, turns, numbers=(0, 1, 2, 3, 4, 5)):
-    source = source_of(seed)
-    for turn in range(turns):
-        causes = random_shape(source, source.choice(numbers), thick=source.choice((0.3, 0.7, 1.0)))
-        greatest = source.choice((1, 9, 10 ** 60 - 1))
-        yield random_book(source, causes, greatest=greatest, noughts=source.choice((0.0, 0.3)))
 
 
 def unknown(view):

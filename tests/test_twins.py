@@ -6,7 +6,7 @@ from causebook.books import book
 from causebook.recipes import recipe, seen_sheet, stuck
 from causebook.setting import by_setting
 from causebook.twins import feeds, relays, tree, twins
-from helper import assert_own, hidden_shape, source_of, worlds_of
+from helper import assert_own, hidden_shape, seen_of, source_of, worlds_of
 
 # x -> y, u above both.
 BOW = ([[2], [0, 2], []], [2], 0, 1)
@@ -16,10 +16,6 @@ BENT = ([[3], [0, 3], [1], []], [3], 0, 2)
 THREE = ([[3, 4], [0, 3, 5], [1, 4, 5], [], [], []], [3, 4, 5], 0, 2)
 # 0 -> 1 -> 2 -> 3, a hidden one above each two neighbours.
 ROW = ([[4], [0, 4, 5], [1, 5, 6], [2, 6], [], [], []], [4, 5, 6], 0, 3)
-
-
-def seen_of(causes, hidden):
-    return [k for k in range(len(causes)) if k not in hidden]
 
 
 def ends_of(causes, h):
